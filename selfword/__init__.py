@@ -1,0 +1,1 @@
+"""Selfword: texts that run texts, and know their own."""
