@@ -1,4 +1,4 @@
-"""Trees for the tests, made without the program."""
+"""Trees, words and texts for the tests, made without the program."""
 
 DEEPEST = 300
 LARGEST = 100000
@@ -77,6 +77,33 @@ def written(tree):
     return signs + ")"
 
 
+def word(sort, load=()):
+    """The word of this sort and load whose first has only leaves as items."""
+    return (broad(sort),) + load
+
+
+def spelling(text):
+    """The writing as a text by the document's words, a call in a call: for texts some hundred deep at most."""
+    pieces = []
+    for one in text:
+        head, load = (one[0] if one else ()), one[1:]
+        if not one or any(item != () for item in head):
+            pieces.append("!" + written(one))
+        elif len(head) == 0:
+            pieces.append("'" + written(load))
+        elif 1 <= len(head) <= 6 and not load:
+            pieces.append(["drop", "twin", "swap", "front", "part", "turn"][len(head) - 1])
+        elif len(head) == 7 and load:
+            inner = ("fork [", spelling(load[0]), "|", spelling(load[1:]), "]")
+            pieces.append(" ".join(part for part in inner if part))
+        elif len(head) == 8:
+            inner = ("while [", spelling(load), "]")
+            pieces.append(" ".join(part for part in inner if part))
+        else:
+            pieces.append("!" + written(one))
+    return " ".join(pieces)
+
+
 def tuples_all_through(tree):
     """Whether a tree is built of plain tuples and nothing else."""
     waiting = [tree]
@@ -87,6 +114,11 @@ def tuples_all_through(tree):
         waiting.extend(part)
     return True
 
+
+# Firsts of words: with no to ten and with many more leaves, and some with an item that is no leaf.
+HEADS = [broad(count) for count in range(11)] + [broad(500)]
+ODD_HEADS = [(((),),), ((), ((),)), (((),), ()), ((((),),), (), ()), broad(5) + (broad(2),), broad(6) + (broad(1),),
+             (broad(1),) + broad(7), broad(4) + (broad(1),) + broad(4), broad(8) + (broad(1),), broad(30) + (broad(3),)]
 
 # name: (tree, its parts, its depth), told by how the tree is made.
 KNOWN = {

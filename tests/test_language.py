@@ -205,10 +205,51 @@ def node_fault(node):
     return statement_fault(node)
 
 
+def defined(tree):
+    """The names that a file defines itself, at its top."""
+    names = [node.name for node in tree.body if isinstance(node, (ast.FunctionDef, ast.ClassDef))]
+    given = [node for node in tree.body if isinstance(node, ast.Assign)]
+    return names + [target.id for node in given for target in node.targets if isinstance(target, ast.Name)]
+
+
+def drawn(tree):
+    """The (module, name) pairs that a file imports."""
+    return [(node.module, a.name) for node in tree.body if isinstance(node, ast.ImportFrom) for a in node.names]
+
+
+def scope_faults(tree):
+    """Faults of names that are bound twice at a file's top, or again within a def: L15."""
+    top = defined(tree) + [name for module, name in drawn(tree)]
+    kept = {name for module, name in drawn(tree)} | {n.name for n in tree.body if isinstance(n, ast.ClassDef)}
+    inner = set()
+    for node in ast.walk(tree):
+        if isinstance(node, ast.FunctionDef):
+            inner |= {n.arg for n in ast.walk(node) if isinstance(n, ast.arg)}
+            inner |= {n.id for n in ast.walk(node) if isinstance(n, ast.Name) and isinstance(n.ctx, ast.Store)}
+    return ["L15"] if len(set(top)) != len(top) or inner & kept else []
+
+
+def drawing_faults(sources):
+    """Faults of imports among files, handed in by their modules' names: L16."""
+    trees = {module: ast.parse(source) for module, source in sources.items()}
+    faults = []
+    for tree in trees.values():
+        if any(name not in defined(trees[module]) for module, name in drawn(tree) if module in trees):
+            faults.append("L16")
+    left = dict(trees)
+    while left:
+        free = [module for module, tree in left.items() if not {other for other, name in drawn(tree)} & set(left)]
+        if not free:
+            return faults + ["L16"]
+        for module in free:
+            del left[module]
+    return faults
+
+
 def faults_of(source):
     """The rules that a file of the package, other than __main__.py, breaks."""
     tree = ast.parse(source)
-    found = sign_faults(source) + top_faults(tree) + [node_fault(node) for node in ast.walk(tree)]
+    found = sign_faults(source) + top_faults(tree) + scope_faults(tree) + [node_fault(node) for node in ast.walk(tree)]
     return sorted({fault for fault in found if fault})
 
 
@@ -230,7 +271,8 @@ class ThePackage(unittest.TestCase):
 
     def test_its_files_are_here(self):
         names = [name for folder, name in package_files()]
-        for name in ("__init__.py", "errors.py", "trees.py", "brackets.py"):
+        for name in ("__init__.py", "errors.py", "trees.py", "brackets.py", "words.py", "writing.py", "reading.py",
+                     "stands.py"):
             self.assertIn(name, names)
 
     def test_each_folder_is_a_package(self):
@@ -245,6 +287,10 @@ class ThePackage(unittest.TestCase):
         for folder, name in package_files():
             if name != "__main__.py":
                 self.assertEqual(faults_of(read_source(folder, name)), [], name)
+
+    def test_drawing(self):
+        sources = {PACKAGE + "." + name[:-3]: read_source(folder, name) for folder, name in package_files()}
+        self.assertEqual(drawing_faults(sources), [])
 
 
 class TheCheck(unittest.TestCase):
@@ -288,6 +334,10 @@ class TheCheck(unittest.TestCase):
             ("# a\r\n", "L14"),
             ("def f(hash):\n    pass\n", "L15"),
             ("def f():\n    len = 1\n", "L15"),
+            ("from selfword.trees import first\n\n\ndef f(first):\n    pass\n", "L15"),
+            ("from selfword.trees import first\n\n\ndef f():\n    first = 1\n", "L15"),
+            ("A = 1\nA = 2\n", "L15"),
+            ("A = 1\n\n\ndef A():\n    pass\n", "L15"),
             ("# the type\n", "L17"),
             ("# overloaded\n", "L17"),
             ("def f(a):\n    return id(a)\n", "L17"),
@@ -300,3 +350,10 @@ class TheCheck(unittest.TestCase):
         for source, rule in broken:
             with self.subTest(source[:60]):
                 self.assertIn(rule, faults_of(source))
+
+    def test_drawing(self):
+        one = "from selfword.b import f\n\n\ndef g():\n    return f()\n"
+        self.assertEqual(drawing_faults({"selfword.a": one, "selfword.b": "def f():\n    pass\n"}), [])
+        for other in ("from selfword.c import f\n", "from selfword.a import g\n\n\ndef f():\n    pass\n", "A = 1\n"):
+            sources = {"selfword.a": one, "selfword.b": other, "selfword.c": "def f():\n    pass\n"}
+            self.assertIn("L16", drawing_faults(sources))
