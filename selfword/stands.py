@@ -52,9 +52,12 @@ def step_of(stand):
     text = first(stand[0])
     if text == ():
         return SHUT
-    sort = sort_of(text[0])
-    # Of an empty stack this is the leaf, which is just what would be put beneath it.
-    top = first(stand[1])
+    # Of an empty stack the first is the leaf, which is just what would be put beneath it.
+    return place_of(sort_of(text[0]), first(stand[1]))
+
+
+def place_of(sort, top):
+    """The place, in a tally, of the step that a word of this sort goes where this is the top of the stack."""
     if sort == FORK:
         return FORK_NO if top == () else FORK_YES
     if sort == WHILE:

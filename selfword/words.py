@@ -45,3 +45,8 @@ def fork(yes, no):
 def loop(body):
     """The word of sort while with this body."""
     return (((),) * WHILE,) + body
+
+
+def plains(names):
+    """The text of the words of plain that have these names, which are parted by blanks."""
+    return tuple([plain(NAMES.index(name)) for name in names.split()])

@@ -1,4 +1,6 @@
-"""Trees, words and texts for the tests, made without the program."""
+"""Trees, words, texts and walks for the tests, made without the program."""
+
+import random
 
 DEEPEST = 300
 LARGEST = 100000
@@ -113,6 +115,102 @@ def tuples_all_through(tree):
             return False
         waiting.extend(part)
     return True
+
+
+def moved(stand):
+    """The next stand, by the document's words, and of the step: its place in a tally, the parts copied, the body's."""
+    texts, stack = list(stand[0]), list(stand[1])
+    text = texts.pop(0)
+    if not text:
+        return (tuple(texts), stand[1]), 12, 0, 0
+    head, load = (text[0][0] if text[0] else ()), text[0][1:]
+    sort = min(len(head), 9)
+    while len(stack) < [0, 1, 1, 2, 2, 1, 3, 1, 1, 0][sort]:
+        stack.append(())
+    texts.insert(0, text[1:])
+    place, copied, body = [0, 1, 2, 3, 4, 5, 6, 8, 10, 11][sort], 0, 0
+    if sort == 0:
+        stack = [load] + stack
+    elif sort == 1:
+        stack = stack[1:]
+    elif sort == 2:
+        copied = measured(stack[0])[0]
+        stack = [stack[0], stack[0]] + stack[1:]
+    elif sort == 3:
+        stack = [stack[1], stack[0]] + stack[2:]
+    elif sort == 4:
+        stack = [(stack[0],) + stack[1]] + stack[2:]
+    elif sort == 5:
+        stack = [stack[0][0] if stack[0] else (), stack[0][1:]] + stack[1:]
+    elif sort == 6:
+        stack = [stack[2], stack[0], stack[1]] + stack[3:]
+    elif sort == 7 and stack[0]:
+        place, texts = 7, [load[0] if load else ()] + texts
+    elif sort == 7:
+        texts = [load[1:]] + texts
+    elif sort == 8 and stack[0]:
+        place, body, texts[0] = 9, measured(load)[0], text
+        texts = [load] + texts
+    return (tuple(texts), tuple(stack)), place, copied, body
+
+
+def walked(stand, budget):
+    """All stands of a run with this budget from a stand on, each with the tally and the steps to it."""
+    tally, steps = [0] * 15, 0
+    passed = [(stand, tuple(tally), steps)]
+    while stand[0]:
+        stand, place, copied, body = moved(stand)
+        steps += copied if place == 2 else 1
+        if steps > budget:
+            break
+        tally[place] += 1
+        tally[13] += copied
+        tally[14] += body
+        passed.append((stand, tuple(tally), steps))
+    return passed
+
+
+def drawn_tree(draw, most):
+    """A drawn tree of at most so many parts."""
+    items, left = [], most - 1
+    while left > 0 and draw.random() < 0.7:
+        item = drawn_tree(draw, draw.randint(1, left))
+        items.append(item)
+        left -= measured(item)[0]
+    return tuple(items)
+
+
+def drawn_word(draw, deep):
+    """A drawn word with forks and whiles at most so deep in it: of every sort, some firsts and loads of any kind."""
+    if draw.random() < 0.05:
+        return drawn_tree(draw, 12)
+    sort = draw.choice((0, 0, 1, 2, 3, 4, 5, 5, 6, 7, 7, 8, 8, 9, 11) if deep else (0, 0, 1, 2, 3, 4, 5, 5, 6, 9, 10))
+    head = list(broad(sort))
+    while head and draw.random() < 0.15:
+        head[draw.randrange(len(head))] = drawn_tree(draw, 5)
+    if sort in (7, 8) and draw.random() < 0.9:
+        load = drawn_text(draw, deep - 1)
+        if sort == 7:
+            load = (load,) + drawn_text(draw, deep - 1)
+        elif draw.random() < 0.5:
+            # Without these few whiles would be gone past behind their bodies.
+            load = (word(5), word(1)) + load
+    elif sort == 0 or draw.random() < 0.2:
+        load = drawn_tree(draw, 9)
+    else:
+        load = ()
+    return (tuple(head),) + load
+
+
+def drawn_text(draw, deep):
+    """A drawn text with forks and whiles at most so deep in it."""
+    return tuple(drawn_word(draw, deep) for unused in range(draw.randint(0, 5)))
+
+
+def drawn_runs(seed, count):
+    """So many drawn pairs of a text and a tree, always the same for a seed."""
+    draw = random.Random(seed)
+    return [(drawn_text(draw, 3), drawn_tree(draw, 15)) for unused in range(count)]
 
 
 # Firsts of words: with no to ten and with many more leaves, and some with an item that is no leaf.

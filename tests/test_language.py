@@ -28,6 +28,8 @@ METHODS = """append clear copy count endswith extend find get index insert isaln
 
 PYTHONS_OWN = {name for kind in (str, int, list, tuple, dict, set, bytes) for name in dir(kind)}
 
+FREE_VALUES = """count index title find get join lower upper split strip copy add""".split()
+
 NOWHERE = """register mro elements open input version_info with_traceback add_note""".split()
 
 NOT_AS_NAMES = """attrgetter breakpoint builtins compile copyright credits delattr dir eval exec exit gc getattr
@@ -246,6 +248,24 @@ def drawing_faults(sources):
     return faults
 
 
+def object_names(trees):
+    """The names of all methods, and those of all values that objects are given."""
+    nodes = [node for tree in trees for node in ast.walk(tree)]
+    classes = [node for node in nodes if isinstance(node, ast.ClassDef)]
+    methods = {inner.name for node in classes for inner in node.body if isinstance(inner, ast.FunctionDef)}
+    given = {node.attr for node in nodes if isinstance(node, ast.Attribute) and isinstance(node.ctx, ast.Store)}
+    return methods, given
+
+
+def object_faults(sources):
+    """Faults of the names of methods and of objects' values, over all files: L18, L26."""
+    methods, given = object_names([ast.parse(source) for source in sources])
+    faults = ["L18"] if methods & given else []
+    if given & (PYTHONS_OWN - set(FREE_VALUES)) or given & {"args", "sort", "encode", "format"}:
+        faults.append("L26")
+    return faults
+
+
 def faults_of(source):
     """The rules that a file of the package, other than __main__.py, breaks."""
     tree = ast.parse(source)
@@ -272,7 +292,7 @@ class ThePackage(unittest.TestCase):
     def test_its_files_are_here(self):
         names = [name for folder, name in package_files()]
         for name in ("__init__.py", "errors.py", "trees.py", "brackets.py", "words.py", "writing.py", "reading.py",
-                     "stands.py"):
+                     "stands.py", "rows.py", "runner.py", "putting.py", "selfrun.py"):
             self.assertIn(name, names)
 
     def test_each_folder_is_a_package(self):
@@ -287,6 +307,9 @@ class ThePackage(unittest.TestCase):
         for folder, name in package_files():
             if name != "__main__.py":
                 self.assertEqual(faults_of(read_source(folder, name)), [], name)
+
+    def test_objects(self):
+        self.assertEqual(object_faults([read_source(folder, name) for folder, name in package_files()]), [])
 
     def test_drawing(self):
         sources = {PACKAGE + "." + name[:-3]: read_source(folder, name) for folder, name in package_files()}
@@ -350,6 +373,15 @@ class TheCheck(unittest.TestCase):
         for source, rule in broken:
             with self.subTest(source[:60]):
                 self.assertIn(rule, faults_of(source))
+
+    def test_objects(self):
+        one = "class A:\n    def __init__(self):\n        self.{} = 1\n"
+        other = "class B:\n    def go(self):\n        pass\n"
+        self.assertEqual(object_faults([one.format("going"), other]), [])
+        self.assertEqual(object_faults([one.format("count"), other]), [])
+        self.assertEqual(object_faults([one.format("go"), other]), ["L18"])
+        for name in ("items", "pop", "sort", "args", "real"):
+            self.assertEqual(object_faults([one.format(name), other]), ["L26"])
 
     def test_drawing(self):
         one = "from selfword.b import f\n\n\ndef g():\n    return f()\n"

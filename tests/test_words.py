@@ -3,7 +3,7 @@
 import unittest
 
 from helper import HEADS, KNOWN, ODD_HEADS, broad, chain, small_trees, tuples_all_through, word
-from selfword.words import fork, lay, load_of, loop, plain, sort_of
+from selfword.words import fork, lay, load_of, loop, plain, plains, sort_of
 
 LOADS = small_trees(5) + [broad(1000), chain(298)]
 
@@ -64,6 +64,12 @@ class Made(unittest.TestCase):
             self.assertEqual(plain(sort), (((),) * sort,))
             self.assertEqual(sort_of(plain(sort)), sort)
             self.assertEqual(load_of(plain(sort)), ())
+
+    def test_plains(self):
+        self.assertEqual(plains(""), ())
+        self.assertEqual(plains("turn"), (plain(6),))
+        self.assertEqual(plains("drop twin swap front part turn drop"),
+                         (plain(1), plain(2), plain(3), plain(4), plain(5), plain(6), plain(1)))
 
     def test_fork(self):
         seven = ((), (), (), (), (), (), ())
