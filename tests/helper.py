@@ -239,3 +239,9 @@ KNOWN = {
     "the same deep tree many times": ((chain(99),) * 900, 90001, 100),
     "the same broad tree many times": ((broad(99),) * 999, 99901, 2),
 }
+
+# Writings of texts that make another text of what they are run on, q being that: the one made tells q; tells q ahead
+# of its input's items; tells q ahead of the items of q.
+TELLS_IT = "'() front '() swap front"
+TELLS_IT_AHEAD = "'() front '(((()()()()))) swap front"
+TELLS_IT_TWICE = "twin front '() front '() swap front"

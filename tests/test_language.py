@@ -292,7 +292,8 @@ class ThePackage(unittest.TestCase):
     def test_its_files_are_here(self):
         names = [name for folder, name in package_files()]
         for name in ("__init__.py", "errors.py", "trees.py", "brackets.py", "words.py", "writing.py", "reading.py",
-                     "stands.py", "rows.py", "runner.py", "putting.py", "selfrun.py"):
+                     "stands.py", "rows.py", "runner.py", "putting.py", "selfrun.py", "counts.py", "knots.py",
+                     "ends.py", "desk.py"):
             self.assertIn(name, names)
 
     def test_each_folder_is_a_package(self):
